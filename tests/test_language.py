@@ -88,6 +88,52 @@ class Language(unittest.TestCase):
             if isinstance(node, ast.Assign) and isinstance(node.value, ast.Call):
                 self.assertNotIn(getattr(node.value.func, "id", ""), WALKED_AT_ONCE, where)
 
+    def test_numbers_texts_and_is(self):
+        for where, node in self.each_node():
+            if isinstance(node, ast.BinOp) and isinstance(node.op, ast.Pow):
+                self.assertIsInstance(node.right, ast.Constant, where)
+                self.assertIn(node.right.value, range(65), where)
+            if isinstance(node, ast.Constant) and isinstance(node.value, str):
+                self.assertNotIn("%", node.value, where)
+            if isinstance(node, ast.Compare) and isinstance(node.ops[0], (ast.Is, ast.IsNot)):
+                self.assertIn(getattr(node.comparators[0], "value", "other"), (None, True, False), where)
+
+    def test_each_name_of_a_files_top_is_bound_once(self):
+        for path, text in sources().items():
+            names = []
+            for node in ast.parse(text).body:
+                if isinstance(node, (ast.FunctionDef, ast.ClassDef)):
+                    names.append(node.name)
+                elif isinstance(node, ast.ImportFrom):
+                    names += [name.name for name in node.names]
+                elif isinstance(node, ast.Assign):
+                    names.append(node.targets[0].id)
+                else:
+                    self.assertEqual((type(node), node.lineno), (ast.Expr, 1), path.name)
+            self.assertEqual(sorted(names), sorted(set(names)), path.name)
+
+    def test_no_two_files_draw_from_one_another(self):
+        drawn = {}
+        for path, text in sources().items():
+            rows = [node for node in ast.parse(text).body if isinstance(node, ast.ImportFrom)]
+            drawn["twistturn." + path.stem] = {row.module for row in rows}
+        while drawn:
+            free = [name for name in drawn if not drawn[name] & set(drawn)]
+            self.assertNotEqual(free, [], sorted(drawn))
+            for name in free:
+                del drawn[name]
+
+    def test_what_is_imported_is_defined_there_and_used(self):
+        for path, text in sources().items():
+            tree = ast.parse(text)
+            used = {node.id for node in ast.walk(tree) if isinstance(node, ast.Name)}
+            for node in tree.body:
+                if isinstance(node, ast.ImportFrom):
+                    source = (PACKAGE / (node.module.split(".")[1] + ".py")).read_text(encoding="utf-8")
+                    for name in node.names:
+                        self.assertIn(name.name, used, path.name)
+                        self.assertRegex(source, rf"(?m)^(def |class )?{name.name}\b", path.name)
+
     def test_names(self):
         for where, node in self.each_node():
             if isinstance(node, ast.Name) and hasattr(builtins, node.id):

@@ -2,32 +2,10 @@ import copy
 import math
 import unittest
 
-from helpers import SOME_FRACTIONS, led_by_table, table, things_of_every_kind, words_up_to
+from helpers import PIECES, SOME_FRACTIONS, bad_fractions, bad_words, led_by_table, table, things_of_every_kind
+from helpers import words_of_refusals, words_up_to
 from twistturn.errors import BadFraction, BadStep, BadWord
 from twistturn.words import back, danced, stepped
-
-PIECES = ("tu", "ut", "rr", "trtrtr")
-
-BAD_TEXTS = ["T", "x", "tx", "xt", "t u", " ", "t\n", "tur,", "0", "1/0", "\u0442", "t\x00", "\ud800", "in"]
-
-
-def bad_words():
-    return things_of_every_kind() + BAD_TEXTS + [0, 1, -1, 10 ** 40, (1, 0), ("in", 0, "tu"), ("t", "u")]
-
-
-def bad_numbers():
-    return things_of_every_kind() + ["", "1", "t"]
-
-
-def bad_fractions():
-    bad = things_of_every_kind() + ["", "t", "1/1", 0, 1, -1]
-    bad += [(1,), (1, 2, 3), [1, 2], [1, 0], [0, 1], (1, 2, 1), ((1, 2),), ("1", "2"), (1, "2"), ((1,), (2,))]
-    bad += [(True, 1), (1, True), (True, True), (True, False), (False, True), (True, 0), (1, False), (0, True)]
-    bad += [(1.0, 2), (1, 2.0), (1.0, 0), (1, 0.0)]
-    bad += [(0, 0), (-1, 0), (2, 0), (-2, 0), (0, 2), (0, -1), (1, -1), (-1, -1), (1, -2)]
-    bad += [(2, 2), (2, 4), (-2, 4), (-3, 3), (6, 4), (3 * 10 ** 60, 9), (10 ** 50, 10 ** 40), (10 ** 50, 0)]
-    bad += [(number, 1) for number in bad_numbers()] + [(1, number) for number in bad_numbers()]
-    return bad
 
 
 def bad_steps():
@@ -211,17 +189,6 @@ class Stepped(unittest.TestCase):
         for step in bad_steps():
             with self.assertRaises(BadWord):
                 stepped("tuT", step)
-
-
-def words_of_refusals(asked, kind, things):
-    """Every text that the refusals bear when each of these is asked."""
-    told = set()
-    for thing in things:
-        try:
-            asked(thing)
-        except kind as refusal:
-            told.add((str(refusal), repr(refusal)))
-    return told
 
 
 class Refusals(unittest.TestCase):
